@@ -68,10 +68,27 @@ func trace(d *pmem.Dev) string {
 	return fmt.Sprint(d.Steps(), d.Dead(), d.Image(), journal.View(d), d.Dirty(), sent.Image())
 }
 
+// soiled is a device that tells the same, of which no word lasts as it is: which words are flushed is to be seen then.
+func soiled(d *pmem.Dev) *pmem.Dev {
+	s := d.Copy()
+	for at, w := range journal.View(d) {
+		s.Store(at, ^w)
+		s.Evict(at)
+		s.Store(at, w)
+	}
+	return s
+}
+
 // does tells whether a call does just these steps: whenever the device dies it is as if they were done one by one.
 func does(t *testing.T, d *pmem.Dev, call func(*pmem.Dev), steps ...[]step) {
 	t.Helper()
 	all := slices.Concat(steps...)
+	doesAll(t, d, call, all)
+	doesAll(t, soiled(d), call, all)
+}
+
+func doesAll(t *testing.T, d *pmem.Dev, call func(*pmem.Dev), all []step) {
+	t.Helper()
 	for fuse := range len(all) + 2 {
 		a, b := d.Copy(), d.Copy()
 		a.Fuse(fuse)
@@ -349,10 +366,14 @@ func TestHeal(t *testing.T) {
 	journal.Rest(d, g, 1)
 	journal.Begin(d, g, 1)
 	does(t, d, heal(api.OK), lay(11, markWord(api.Mark{Gen: 5})))
+	old := uint64(1000 + at)
+	one := d.Copy()
+	journal.Note(one, g, 1, api.Span{From: at, Many: 1})
+	one.Store(at, 1)
+	does(t, one, heal(api.OK), []step{store(at, old), flush(at, 1), fence}, lay(11, markWord(api.Mark{Gen: 5})))
 	journal.Note(d, g, 1, api.Span{From: at, Many: 2})
 	d.Store(at, 1)
 	journal.Note(d, g, 1, api.Span{From: at, Many: 1})
-	old := uint64(1000 + at)
 	does(t, d, heal(api.OK), []step{store(at, 1), store(at, old), store(at+1, old+1), flush(at, 1), flush(at, 1), flush(at+1, 1), fence}, lay(11, markWord(api.Mark{Gen: 5})))
 	journal.Ready(d, g, 1, []api.Op{{At: 8, Value: 7}, {Kind: api.Or, At: tab, Value: 1}})
 	journal.Decide(d, g, 1, 2)

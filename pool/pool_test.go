@@ -56,10 +56,27 @@ func trace(d *pmem.Dev) string {
 	return fmt.Sprint(d.Steps(), d.Dead(), d.Image(), journal.View(d), d.Dirty(), sent.Image())
 }
 
+// soiled is a device that tells the same, of which no word lasts as it is: which words are flushed is to be seen then.
+func soiled(d *pmem.Dev) *pmem.Dev {
+	s := d.Copy()
+	for at, w := range journal.View(d) {
+		s.Store(at, ^w)
+		s.Evict(at)
+		s.Store(at, w)
+	}
+	return s
+}
+
 // does tells whether a call does just these steps, and tells ErrDead if the device dies meanwhile, else OK.
 func does(t *testing.T, d *pmem.Dev, call func(*pmem.Dev) api.Errno, steps ...[]step) {
 	t.Helper()
 	all := slices.Concat(steps...)
+	doesAll(t, d, call, all)
+	doesAll(t, soiled(d), call, all)
+}
+
+func doesAll(t *testing.T, d *pmem.Dev, call func(*pmem.Dev) api.Errno, all []step) {
+	t.Helper()
 	for fuse := range len(all) + 2 {
 		a, b := d.Copy(), d.Copy()
 		a.Fuse(fuse)

@@ -410,3 +410,35 @@ func TestNothingIsKept(t *testing.T) {
 		t.Error("one script knows of another one")
 	}
 }
+
+// torn is a script in which a device dies behind so many steps of a transaction that changes two words, makes an object, names it, and frees another one.
+func torn(fuse int, keep string) string {
+	ahead := "pool 300 2\nopen\nbegin 0\nnew 0 1 7 2\nput 0 1 0 1\nput 0 1 1 2\nnew 0 2 7 40\nroot 0 1\ncommit 0\n" + strings.Repeat("step 0\n", 5)
+	work := "begin 1\nadd 1 1 0 2\nput 1 1 0 7\nnew 1 3 9 3\nput 1 3 2 9\nput 1 1 1 8\nroot 1 3\ndrop 1 2\ncommit 1\n" + strings.Repeat("step 1\n", 5)
+	return ahead + fmt.Sprintf("fuse %d\n", fuse) + work + "crash " + keep + "\nopen\nget 0 1 0\nget 0 1 1\nwhich 0 4\nlist 0\nopen\nlist 0\n"
+}
+
+func TestNothingIsTorn(t *testing.T) {
+	const name = ".4294967297"
+	before := []string{"ok", "ok 1", "ok 2", "ok 160.7" + name, "ok 160.7" + name + " 192.7.4294967298", "ok", "ok 160.7" + name + " 192.7.4294967298"}
+	after := []string{"ok", "ok 7", "ok 8", "ok 256.9.4294967299", "ok 160.7" + name + " 256.9.4294967299", "ok", "ok 160.7" + name + " 256.9.4294967299"}
+	for _, keep := range []string{"-", strings.Repeat("1", 60), strings.Repeat("2", 60), strings.Repeat("012", 20), strings.Repeat("201", 20), strings.Repeat("120", 20)} {
+		last, died := before, true
+		for fuse := 1; died; fuse++ {
+			out := run(t, torn(fuse, keep))
+			lines := strings.Split(strings.TrimSuffix(out, "\n"), "\n")
+			tail := strings.Join(lines[len(lines)-7:], "\n")
+			if tail == strings.Join(after, "\n") {
+				last = after
+			}
+			// Once it is decided it stays so, however much later the device dies.
+			if tail != strings.Join(last, "\n") {
+				t.Fatalf("with a fuse of %d, and %s kept, there is\n%s", fuse, keep, out)
+			}
+			died = strings.Contains(out, "error 12")
+		}
+		if &last[0] != &after[0] {
+			t.Fatal("it was never decided")
+		}
+	}
+}

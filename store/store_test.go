@@ -88,12 +88,22 @@ func trace(d *pmem.Dev) string {
 	return fmt.Sprint(d.Dead(), d.Image(), journal.View(d), d.Dirty(), sent.Image())
 }
 
+// soil has no word of a device last as it is told: which words are flushed is to be seen then.
+func soil(c *scene) {
+	for at, w := range journal.View(c.d) {
+		c.d.Store(at, ^w)
+		c.d.Evict(at)
+		c.d.Store(at, w)
+	}
+}
+
 // does tells whether a call does just the steps that are told, whenever the device dies.
 func does(t *testing.T, ahead func(*scene), call func(*scene) api.Errno, want func(*scene, *pmem.Dev)) {
 	t.Helper()
 	for fuse, died := 1, true; died; fuse++ {
 		c := newScene(t)
 		ahead(c)
+		soil(c)
 		d, steps := c.d.Copy(), c.d.Steps()
 		c.d.Fuse(fuse)
 		d.Fuse(fuse)

@@ -194,6 +194,9 @@ func (w *world) begin(lane int) bool {
 
 func (w *world) add(lane int, o api.Oid, at int) bool {
 	s := api.Span{From: at, Many: w.r.Intn(8)}
+	if x := w.m.live[o.At]; w.r.Intn(3) == 0 {
+		s = api.Span{Many: len(x.data)}
+	}
 	if w.r.Intn(20) == 0 {
 		s.Many = []int{-1, 60, 300, math.MaxInt, math.MinInt}[w.r.Intn(5)]
 	}
