@@ -248,6 +248,34 @@ func TestSerials(t *testing.T) {
 	}
 }
 
+// TestSerialsTwice gives each two of a pool's objects one serial, wherever they lie.
+func TestSerialsTwice(t *testing.T) {
+	image, g := pool(1, 4)
+	setChunk(image, g, 0, api.Chunk{Kind: api.Run, Class: 1, Bits: 15})
+	setChunk(image, g, 1, api.Chunk{Kind: api.Huge, Many: 2})
+	setChunk(image, g, 2, api.Chunk{Kind: api.Tail})
+	setChunk(image, g, 3, api.Chunk{Kind: api.Run, Class: 0, Bits: 1 << 7})
+	var ats []int
+	for i := range 4 {
+		ats = append(ats, chunkAt(g, 0)+8*i)
+		lay(image, ats[i], api.Header{Type: 1, Size: 3, Serial: uint64(40 - 7*i)})
+	}
+	ats = append(ats, chunkAt(g, 1), chunkAt(g, 3)+28)
+	lay(image, ats[4], api.Header{Type: 2, Size: 40, Serial: 1})
+	lay(image, ats[5], api.Header{Type: 3, Size: 0, Serial: 5})
+	for i, a := range ats {
+		for _, b := range ats[:i] {
+			if e := sound.Sound(image); e != api.OK || len(sound.Objects(image)) != len(ats) {
+				t.Fatalf("all serials differ: %v", e)
+			}
+			kept := image[a+1]
+			image[a+1] = image[b+1]
+			unsound(t, image, "one serial twice")
+			image[a+1] = kept
+		}
+	}
+}
+
 func TestNoPools(t *testing.T) {
 	image, g := pool(1, 2)
 	if e := sound.Sound(image); e != api.OK || len(sound.Objects(image)) != 0 || sound.Root(image) != (api.Oid{}) {
